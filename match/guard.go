@@ -1,9 +1,8 @@
 package match
 
 import (
-	"slices"
-
 	"exitwave/api"
+	"exitwave/bif"
 	"exitwave/check"
 	"exitwave/term"
 )
@@ -52,13 +51,15 @@ func (r *run) made(kind int, parts []int) (api.Term, bool) {
 	return ifRight(api.Term{Kind: kind, L: l})
 }
 
+// consed: what stands ahead, and the list behind it; of what is no list ++ tells nothing.
 func (r *run) consed(parts []int) (api.Term, bool) {
 	l, is := each(parts, r.reckon)
 	if !is || len(l) == 0 {
 		return api.Term{}, false
 	}
 	last := len(l) - 1
-	return joined(api.Term{Kind: api.KList, L: l[:last]}, l[last])
+	ahead := api.Term{Kind: api.KList, L: l[:last]}
+	return told(bif.Op("++", []api.Term{ahead, l[last]}))
 }
 
 func (r *run) operation(node api.Node) (api.Term, bool) {
@@ -69,13 +70,7 @@ func (r *run) operation(node api.Node) (api.Term, bool) {
 	if !is {
 		return api.Term{}, false
 	}
-	switch len(l) {
-	case 1:
-		return opOfOne(node.S, l[0])
-	case 2:
-		return opOfTwo(node.S, l[0], l[1])
-	}
-	return api.Term{}, false
+	return told(bif.Op(node.S, l))
 }
 
 // either looks at the second part only where the first one does not say all.
@@ -98,36 +93,19 @@ func (r *run) call(node api.Node) (api.Term, bool) {
 	if !is {
 		return api.Term{}, false
 	}
-	switch len(l) {
-	case 1:
-		return builtinOfOne(node.S, l[0])
-	case 2:
-		if node.S == "is_function" {
-			return r.isFunction(l[0], l[1])
-		}
-		return builtinOfTwo(node.S, l[0], l[1])
-	}
-	return api.Term{}, false
+	return told(bif.Call(node.S, l, r.arity))
 }
 
-func (r *run) isFunction(fun, n api.Term) (api.Term, bool) {
-	if n.Kind != api.KInt || n.N < 0 {
-		return api.Term{}, false
-	}
-	return boolean(fun.Kind == api.KFun && r.takes(fun, n.N)), true
-}
-
-// takes tells whether a fun takes n arguments. One that is no fun of the tree takes no number of them, not even 0.
-func (r *run) takes(fun api.Term, n int64) bool {
+// arity tells how many arguments a fun takes. One that is no fun of the tree takes no number of them, not even 0.
+func (r *run) arity(fun api.Term) int {
 	node := nodeAt(r.tree, int(fun.N))
-	switch node.Kind {
-	case api.NFunName:
-		return node.N == n && len(fun.L) == 0
-	case api.NFun:
-		clause := r.first(r.first(node))
-		return clause.N == n && len(check.Free(r.tree, int(fun.N))) == len(fun.L)
+	switch {
+	case node.Kind == api.NFunName && len(fun.L) == 0:
+		return int(node.N)
+	case node.Kind == api.NFun && len(fun.L) == len(check.Free(r.tree, int(fun.N))):
+		return int(r.first(r.first(node)).N)
 	}
-	return false
+	return -1
 }
 
 func (r *run) first(node api.Node) api.Node {
@@ -137,17 +115,13 @@ func (r *run) first(node api.Node) api.Node {
 	return nodeAt(r.tree, node.L[0])
 }
 
-// joined tells a list and another one behind it.
-func joined(a, b api.Term) (api.Term, bool) {
-	if a.Kind != api.KList || b.Kind != api.KList {
-		return api.Term{}, false
-	}
-	return ifRight(api.Term{Kind: api.KList, L: slices.Concat(a.L, b.L)})
-}
-
 func ifRight(x api.Term) (api.Term, bool) {
 	if term.Check(x) != api.OK {
 		return api.Term{}, false
 	}
 	return x, true
 }
+
+func isBoolean(x api.Term) bool { return isAtom(x, "true") || isAtom(x, "false") }
+
+func isAtom(x api.Term, s string) bool { return x.Kind == api.KAtom && x.S == s }
