@@ -26,7 +26,7 @@ func ofOne() []string { return strings.Fields(guardsOfOne + " " + othersOfOne) }
 
 func ofTwo() []string { return strings.Fields(guardsOfTwo + " " + othersOfTwo) }
 
-// table tells a name and a number of arguments, `name/number`, of those in lists; what it tells of them: 1.
+// tableOf lays names with a number of arguments into a table, as `name/number`.
 func tableOf(names string, n int, into map[string]int) {
 	for _, name := range strings.Fields(names) {
 		into[fmt.Sprintf("%s/%d", name, n)] = 1
